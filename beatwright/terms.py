@@ -1,7 +1,7 @@
 """Terms: their size, their width, what they read, and their worth."""
 
-from beatwright.errors import NoWidth, NoWord, TooMany, Unknown, Unlike
-from beatwright.words import WIDEST, cut, fits, is_width
+from beatwright.errors import NoWidth, TooMany, Unknown, Unlike
+from beatwright.words import WIDEST, check_width, check_word, cut
 
 MOST_PARTS = 100
 MOST_DEEP = 12
@@ -66,10 +66,8 @@ def checked_width(term, boxes, doors):
 
 
 def checked_num(width, word):
-    if not is_width(width):
-        raise NoWidth(f"{width} is no width")
-    if not fits(width, word):
-        raise NoWord(f"{word} is no word of width {width}")
+    check_width(width)
+    check_word(width, word)
     return width
 
 

@@ -1,4 +1,8 @@
-"""Terms and widths that several tests share."""
+"""Terms, widths and signs that several tests share."""
+
+LETTERS = "abcdefghijklmnopqrstuvwxyz"
+YES = ("num", 1, 1)
+NO = ("num", 1, 0)
 
 BOXES = {"bit": 1, "two": 2, "four": 4, "wide": 64, "most": 63}
 DOORS = {"flag": 1, "pair": 2, "gate": 4}
@@ -49,3 +53,32 @@ def tree(parts, leaf=("num", 1, 0)):
         return ("not", leaf)
     left = (parts - 1) // 2
     return ("xor", tree(left, leaf), tree(parts - 1 - left, leaf))
+
+
+def drawn_term(chance, width, deep, boxes, doors):
+    """Some term of a width, of boxes and doors of given widths, numbers and larger terms."""
+    if deep == 1 or chance.randrange(5) == 0:
+        leaves = [("num", width, chance.randrange(2 ** width)), ("num", width, chance.choice([0, 2 ** width - 1]))]
+        leaves += [(form, name) for form in ("box", "late") for name in boxes if boxes[name] == width]
+        leaves += [("door", name) for name in doors if doors[name] == width]
+        return chance.choice(leaves)
+
+    def drawn(inner_width):
+        return drawn_term(chance, inner_width, deep - 1, boxes, doors)
+
+    widths = sorted(set(boxes.values()) | set(doors.values()))
+    forms = ["not", "and", "or", "xor", "plus", "minus", "pick", "part"]
+    form = chance.choice(forms + (["join"] if width > 1 else ["less", "same"]))
+    if form == "not":
+        return (form, drawn(width))
+    if form == "pick":
+        return (form, drawn(1), drawn(width), drawn(width))
+    if form == "join":
+        low = chance.randrange(1, width)
+        return (form, drawn(width - low), drawn(low))
+    if form == "part":
+        whole = chance.choice([wider for wider in widths if wider >= width] + [width])
+        return (form, drawn(whole), chance.randrange(whole - width + 1), width)
+    if form in ("less", "same"):
+        width = chance.choice(widths)
+    return (form, drawn(width), drawn(width))

@@ -106,6 +106,11 @@ def methods_of(tree):
             if isinstance(item, ast.FunctionDef)}
 
 
+def values_of(tree):
+    """The names of the values that objects are given."""
+    return {node.attr for node in ast.walk(tree) if isinstance(node, ast.Attribute) and isinstance(node.ctx, ast.Store)}
+
+
 def faults_of_names(tree, methods):
     bound = set(bound_names(tree))
     for name in bound:
@@ -115,7 +120,8 @@ def faults_of_names(tree, methods):
             yield f"L15 {name} is Python's own"
     outer = {alias.name for node in tree.body if isinstance(node, ast.ImportFrom) for alias in node.names}
     outer |= {node.name for node in tree.body if isinstance(node, ast.ClassDef)}
-    inner = [name for node in tree.body if isinstance(node, ast.FunctionDef) for name in bound_names(node)]
+    defs = [node for node in ast.walk(tree) if isinstance(node, ast.FunctionDef)]
+    inner = [name for node in defs for part in ast.iter_child_nodes(node) for name in bound_names(part)]
     for name in outer & set(inner):
         yield f"L15 {name} is bound within a def too"
     for node in ast.walk(tree):
@@ -143,14 +149,21 @@ def faults_of_defs(tree):
                 yield "L5 a value in a class"
 
 
+def is_docstring(node, parents):
+    above = parents[node]
+    return isinstance(above, ast.Module) and above.body[0] is node
+
+
 def faults_of_parts(tree):
     parents = parents_of(tree)
     for node in ast.walk(tree):
         kind = node.__class__.__name__
         if kind not in NODES:
             yield f"L6, L7 {kind}"
-        if isinstance(node, ast.Assign) and len(node.targets) > 1:
+        if isinstance(node, ast.Assign) and (len(node.targets) > 1 or isinstance(node.targets[0], ast.Tuple)):
             yield "L6 more than one target"
+        if isinstance(node, ast.Expr) and not isinstance(node.value, ast.Call) and not is_docstring(node, parents):
+            yield "L6 a value by itself"
         if isinstance(node, (ast.For, ast.While, ast.Try)) and getattr(node, "finalbody", []):
             yield "L6 finally"
         if isinstance(node, (ast.For, ast.While)) and node.orelse:
@@ -213,6 +226,14 @@ class LanguageTest(unittest.TestCase):
             with self.subTest(file=path.name):
                 self.assertEqual(faults_of(path.read_text(), methods), [])
 
+    def test_no_name_is_a_method_and_a_value(self):
+        trees = self.trees().values()
+        methods = set().union(*[methods_of(tree) for tree in trees])
+        values = set().union(*[values_of(tree) for tree in trees])
+        self.assertEqual(methods & values, set())
+        for kind in (int, str, list, dict, set, bytes):
+            self.assertEqual(values & set(dir(kind)), set())
+
     def test_imports_come_from_the_file_that_defines_the_name(self):
         trees = self.trees()
         for file, tree in trees.items():
@@ -241,6 +262,8 @@ class LanguageTest(unittest.TestCase):
             "class A(B, C):\n    pass\n", "def f(x):\n    assert x\n", "def f(xs):\n    return (x for x in xs)\n",
             "x = 1" + " " * 120 + "\n", "x = 1\n" * 401, "def f():\n" + "    pass\n" * 41, "x = f'{1 + 1}'\n",
             "from beatwright.words import cut\n\n\ndef f(cut):\n    return cut\n",
+            "from beatwright.words import cut\n\n\nclass A:\n    def f(self, cut):\n        return cut\n",
+            "def f(a):\n    a + 1\n", "def f():\n    'says'\n", "def f(a):\n    b, c = a\n",
         ]
         for text in bad:
             with self.subTest(text=text[:60]):

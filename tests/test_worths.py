@@ -5,7 +5,7 @@ import random
 import unittest
 
 from beatwright.terms import size_of, width_of, worth
-from tests.samples import nested, tree
+from tests.samples import drawn_term, nested, tree
 
 BOXES = {"a": 4, "b": 4, "w": 64, "v": 64, "c": 1, "n": 63}
 DOORS = {"d": 4, "g": 1, "x": 64}
@@ -59,31 +59,6 @@ def bits_worth(term, widths, early, late, doors):
         return [int(told[0] == told[1])]
     tell = {"and": min, "or": max, "xor": lambda one, other: int(one != other)}[form]
     return [tell(one, other) for one, other in zip(*told)]
-
-
-def made_term(chance, width, deep):
-    """Some term of a width, made of boxes and doors of that width, numbers and larger terms."""
-    if deep == 1 or chance.randrange(5) == 0:
-        leaves = [num(width, chance.randrange(2 ** width)), num(width, chance.choice([0, 2 ** width - 1]))]
-        leaves += [(form, name) for form in ("box", "late") for name in BOXES if BOXES[name] == width]
-        leaves += [("door", name) for name in DOORS if DOORS[name] == width]
-        return chance.choice(leaves)
-    forms = ["not", "and", "or", "xor", "plus", "minus", "pick", "part"]
-    forms += ["join"] if width > 1 else ["less", "same"]
-    form = chance.choice(forms)
-    if form == "not":
-        return (form, made_term(chance, width, deep - 1))
-    if form == "pick":
-        return (form, made_term(chance, 1, deep - 1)) + tuple(made_term(chance, width, deep - 1) for _ in range(2))
-    if form == "join":
-        low = chance.randrange(1, width)
-        return (form, made_term(chance, width - low, deep - 1), made_term(chance, low, deep - 1))
-    if form == "part":
-        whole = chance.randrange(width, 65)
-        return (form, made_term(chance, whole, deep - 1), chance.randrange(whole - width + 1), width)
-    if form in ("less", "same"):
-        width = chance.choice([1, 4, 63, 64])
-    return (form, made_term(chance, width, deep - 1), made_term(chance, width, deep - 1))
 
 
 class WorthCase(unittest.TestCase):
@@ -230,7 +205,8 @@ class WholeTermsTest(WorthCase):
     def test_many_terms_both_ways(self):
         chance = random.Random(7)
         for _ in range(3000):
-            term = made_term(chance, chance.choice([1, 1, 4, 63, 64, chance.randrange(1, 65)]), chance.randrange(1, 6))
+            width = chance.choice([1, 1, 4, 63, 64, chance.randrange(1, 65)])
+            term = drawn_term(chance, width, chance.randrange(1, 6), BOXES, DOORS)
             early, late = [{name: chance.randrange(2 ** BOXES[name]) for name in BOXES} for _ in range(2)]
             doors = {name: chance.randrange(2 ** DOORS[name]) for name in DOORS}
             bits = bits_worth(term, (BOXES, DOORS), early, late, doors)
