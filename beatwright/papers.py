@@ -54,6 +54,35 @@ class Known:
         self.marks.pop()
         self.put(len(self.marks), 2)
 
+    # So many bits are known now; those that get known are 0.
+    def know(self, many):
+        while len(self.marks) < many:
+            self.learn(0)
+        while len(self.marks) > many:
+            self.forget()
+
+    # On, bit by bit, to where the guards settle it. What is settled stays so with more bits known: so the place is
+    # looked for by longer and longer steps, and then by halves, since each look at the guards takes long.
+    def go_on(self, guards):
+        begin = len(self.marks)
+        low = begin
+        high = begin
+        while not self.settled_at(high, guards):
+            low = high + 1
+            high = min(begin + 2 * (low - begin), len(self.row))
+        while low < high:
+            middle = (low + high) // 2
+            if self.settled_at(middle, guards):
+                high = middle
+            else:
+                low = middle + 1
+        self.know(high)
+
+    def settled_at(self, many, guards):
+        self.know(many)
+        held = self.guard_marks(guards)
+        return 0 in held or held == (1, 1)
+
     def put(self, number, mark):
         bit = self.row[number]
         named = self.spans[bit[0]]
@@ -88,12 +117,10 @@ def never_both(works, one, other):
     known = Known(asked_bits(works, one, other))
     cubes = []
     while True:
+        known.go_on(guards)
         held = known.guard_marks(guards)
         if held == (1, 1):
             return known.both_words()
-        if 0 not in held:
-            known.learn(0)
-            continue
         cubes.append((tuple(known.marks), held.index(0)))
         # Too many cubes go ahead of the end of the row.
         if len(cubes) > MOST_CUBES:

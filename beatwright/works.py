@@ -88,6 +88,10 @@ def rule_of(works, name):
     raise Unknown(f"no rule is called {name!r}")
 
 
+def rule_names(works):
+    return [rule[0] for rule in works[2]]
+
+
 def widths_of(works):
     return (dict([(box[0], box[1]) for box in works[0]]), dict([(door[0], door[1]) for door in works[1]]))
 

@@ -1,5 +1,7 @@
 """Terms, widths and signs that several tests share."""
 
+from beatwright.works import made
+
 LETTERS = "abcdefghijklmnopqrstuvwxyz"
 YES = ("num", 1, 1)
 NO = ("num", 1, 0)
@@ -82,3 +84,40 @@ def drawn_term(chance, width, deep, boxes, doors):
     if form in ("less", "same"):
         width = chance.choice(widths)
     return (form, drawn(width), drawn(width))
+
+
+def drawn_works(chance, rules, deep=3):
+    """Some works of so many rules, of four boxes and two doors of few bits."""
+    boxes, doors = {"a": 1, "b": 2, "c": 1, "d": 2}, {"go": 1, "by": 2}
+
+    def drawn_rule(number):
+        guard = drawn_term(chance, 1, chance.randrange(1, deep + 1), boxes, doors)
+        names = chance.sample(sorted(boxes), chance.randrange(3))
+        writes = [(name, drawn_term(chance, boxes[name], chance.randrange(1, deep + 1), boxes, doors))
+                  for name in names]
+        return ("rule" + LETTERS[number], guard, writes)
+
+    numbers = chance.sample(range(8), rules)
+    return made([(name, width, chance.randrange(2 ** width)) for name, width in boxes.items()],
+                sorted(doors.items()), [drawn_rule(number) for number in numbers])
+
+
+def drawn_words(chance, pairs):
+    """Some word for each pair of a name and a width, the pairs of a dict."""
+    return {name: chance.randrange(2 ** width) for name, width in pairs.items()}
+
+
+def names_of(works):
+    """The rules' names, in their row."""
+    return [rule[0] for rule in works[2]]
+
+
+def open_works(*rules):
+    """Rules (name, boxes that it writes, reads early, reads late), whose guards hold whatever they read."""
+    made_rules = []
+    for name, writes, early, *late in rules:
+        guard = YES
+        for leaf in [("box", box) for box in early] + [("late", box) for boxes in late for box in boxes]:
+            guard = ("or", guard, ("part", leaf, 0, 1))
+        made_rules.append((name, guard, [(box, ("num", 2, 1)) for box in writes]))
+    return made([(letter, 2, 0) for letter in "abcdemnpq"], [], made_rules)

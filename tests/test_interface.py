@@ -11,6 +11,14 @@ FUNCTIONS = {
     "plain": ["can(works, name, now, doors)", "do(works, name, now, doors)", "do_row(works, names, now, doors)"],
     "dims": ["dim(T, early, late, doors)"],
     "papers": ["asked_bits(works, one, other)", "never_both(works, one, other)"],
+    "clashes": [
+        "written(works, name)", "read_early(works, name)", "read_late(works, name)", "clash(works, ahead, behind)",
+    ],
+    "orders": ["clashes_of(works, order)", "table(works)", "cheapest(works)"],
+    "plans": [
+        "needs(works, order)", "ring(works, order)", "settling(works, order)", "plan(works, order)", "own_plan(works)",
+    ],
+    "beats": ["beat(works, plan, now, doors)", "run(works, plan, rows)"],
 }
 
 

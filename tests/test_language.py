@@ -35,6 +35,7 @@ BANNED_WORDS = """
 
 WALKED_AT_ONCE = "zip enumerate reversed range items keys values".split()
 WALKERS = "list tuple dict sorted sum any all enumerate zip min max".split()
+TOO_WIDE = "Exception TypeError ValueError LookupError".split()
 DUNDERS = "__init__ __eq__ __repr__ __str__ __len__".split()
 
 
@@ -181,6 +182,8 @@ def faults_of_parts(tree):
         if isinstance(node, ast.Compare) and any(isinstance(op, (ast.Is, ast.IsNot)) for op in node.ops):
             if not isinstance(node.comparators[-1], ast.Constant):
                 yield "L20 is"
+        if isinstance(node, ast.ExceptHandler) and getattr(node.type, "id", "Exception") in TOO_WIDE:
+            yield "L19 an error that is not named"
         yield from faults_of_call(node, parents)
 
 
@@ -263,6 +266,7 @@ class LanguageTest(unittest.TestCase):
             "x = 1" + " " * 120 + "\n", "x = 1\n" * 401, "def f():\n" + "    pass\n" * 41, "x = f'{1 + 1}'\n",
             "from beatwright.words import cut\n\n\ndef f(cut):\n    return cut\n",
             "from beatwright.words import cut\n\n\nclass A:\n    def f(self, cut):\n        return cut\n",
+            "def f():\n    try:\n        f()\n    except ValueError:\n        pass\n",
             "def f(a):\n    a + 1\n", "def f():\n    'says'\n", "def f(a):\n    b, c = a\n",
         ]
         for text in bad:
