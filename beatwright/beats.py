@@ -1,6 +1,6 @@
 """The beat machine: many rules in one beat, by a plan (order, settling, clashes)."""
 
-from beatwright.orders import are_paired
+from beatwright.orders import ahead_of, rivals_of
 from beatwright.terms import worth
 from beatwright.works import first_words, rule_names, rule_of, widths_of
 
@@ -12,7 +12,7 @@ def beat(works, plan, now, doors):
     stopped = {}
     for name in plan[1]:
         rule = rule_of(works, name)
-        late = words_behind(plan[0][:plan[0].index(name)], puts, now)
+        late = words_behind(ahead_of(plan[0], name), puts, now)
         if worth(rule[1], widths, now, late, doors) == 0:
             continue
         stopper = stopper_of(works, plan[2], name, puts)
@@ -33,12 +33,11 @@ def words_behind(names, puts, now):
     return words
 
 
-# The most urgent of the taken rules that keep a rule from being taken, or None; only more urgent ones do.
+# The most urgent of the taken rules that keep a rule from being taken, or None.
 def stopper_of(works, clashes, name, puts):
-    names = rule_names(works)
-    for other in names[:names.index(name)]:
-        if other in puts and are_paired(clashes, other, name):
-            return other
+    for rival in rivals_of(works, clashes, name):
+        if rival in puts:
+            return rival
     return None
 
 

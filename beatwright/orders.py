@@ -29,6 +29,15 @@ def are_paired(pairs, one, other):
     return (one, other) in pairs or (other, one) in pairs
 
 
+# The more urgent rules that make a clash with a rule, the most urgent first.
+def rivals_of(works, clashes, name):
+    return [other for other in ahead_of(rule_names(works), name) if are_paired(clashes, other, name)]
+
+
+def ahead_of(names, name):
+    return names[:names.index(name)]
+
+
 def table(works):
     return fewest_clashes(clashing_numbers(works))
 

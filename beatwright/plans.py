@@ -2,7 +2,7 @@
 
 from beatwright.clashes import read_late, written
 from beatwright.errors import Ring
-from beatwright.orders import are_paired, cheapest, clashes_of
+from beatwright.orders import ahead_of, cheapest, clashes_of, rivals_of
 from beatwright.papers import shared
 from beatwright.works import rule_names
 
@@ -17,15 +17,13 @@ def needs_with(works, order, clashes):
 
 
 def needed_by(works, order, clashes, name):
-    row = rule_names(works)
-    ahead = order[:order.index(name)]
-    urgent = row[:row.index(name)]
+    ahead = ahead_of(order, name)
     late = read_late(works, name)
+    rivals = rivals_of(works, clashes, name)
     needed = []
-    for other in row:
+    for other in rule_names(works):
         feeds = other in ahead and len(shared(written(works, other), late)) > 0
-        rivals = other in urgent and are_paired(clashes, other, name)
-        if feeds or rivals:
+        if feeds or other in rivals:
             needed.append(other)
     return needed
 

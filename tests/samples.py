@@ -9,6 +9,9 @@ NO = ("num", 1, 0)
 BOXES = {"bit": 1, "two": 2, "four": 4, "wide": 64, "most": 63}
 DOORS = {"flag": 1, "pair": 2, "gate": 4}
 
+FEW_BITS = ({"a": 1, "b": 2, "c": 1, "d": 2}, {"go": 1, "by": 2})
+MANY_BITS = ({"a": 1, "b": 64, "c": 17, "d": 64}, {"go": 1, "by": 64})
+
 FORMS_OF_TWO = ["and", "or", "xor", "plus", "minus", "less", "same"]
 
 # A term of each of the fifteen forms, with its parts, how deep it is, and its width.
@@ -86,9 +89,9 @@ def drawn_term(chance, width, deep, boxes, doors):
     return (form, drawn(width), drawn(width))
 
 
-def drawn_works(chance, rules, deep=3):
-    """Some works of so many rules, of four boxes and two doors of few bits."""
-    boxes, doors = {"a": 1, "b": 2, "c": 1, "d": 2}, {"go": 1, "by": 2}
+def drawn_works(chance, rules, deep=3, widths=FEW_BITS):
+    """Some works of so many rules, of boxes and doors of given widths."""
+    boxes, doors = widths
 
     def drawn_rule(number):
         guard = drawn_term(chance, 1, chance.randrange(1, deep + 1), boxes, doors)
@@ -110,6 +113,22 @@ def drawn_words(chance, pairs):
 def names_of(works):
     """The rules' names, in their row."""
     return [rule[0] for rule in works[2]]
+
+
+def row_faults(rows):
+    """What keeps a list of rows from being those of a net."""
+    told = [] if rows[:2] == [("no",), ("yes",)] else ["rows 0 and 1"]
+    for place, row in enumerate(rows[2:], 2):
+        gate = len(row) == 3 and row[0] in ("and", "xor") and 0 <= row[1] < row[2] < place
+        bit = len(row) == 4 and row[0] == "in" and [type(part) for part in row[1:]] == [str, str, int] and row[3] >= 0
+        if not gate and not bit:
+            told.append(f"row {place}: {row}")
+    return told + (["two rows are alike"] if len(set(rows)) < len(rows) else [])
+
+
+def ins_of(rows):
+    """The bits that rows ask for, as (sort, name, place)."""
+    return [row[1:] for row in rows if row[0] == "in"]
 
 
 def open_works(*rules):

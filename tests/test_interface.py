@@ -1,4 +1,4 @@
-"""The interface: each function is there under its name, with its arguments."""
+"""The interface: each function, class and method is there under its name, with its arguments."""
 
 import importlib
 import inspect
@@ -19,17 +19,35 @@ FUNCTIONS = {
         "needs(works, order)", "ring(works, order)", "settling(works, order)", "plan(works, order)", "own_plan(works)",
     ],
     "beats": ["beat(works, plan, now, doors)", "run(works, plan, rows)"],
+    "gates": ["settle(rows, ins)", "Net()"],
+    "lays": ["lay(net, T, early, late, doors)"],
+    "wires": ["wired(works, plan)", "tick(works, wires, now, doors)"],
+    "houses": ["House(works, plan)", "BeatHouse(works, plan)", "WireHouse(works, plan)"],
+}
+
+METHODS = {
+    ("gates", "Net"): ["asked(self, sort, name, place)", "both(self, i, j)", "differ(self, i, j)", "told(self)"],
+    ("houses", "House"): ["beat(self, doors)", "told(self)"],
+    ("houses", "BeatHouse"): ["beat(self, doors)", "told(self)"],
+    ("houses", "WireHouse"): ["beat(self, doors)", "told(self)"],
 }
 
 
 class InterfaceTest(unittest.TestCase):
-    def test_each_function_and_its_arguments(self):
+    def has(self, holder, form):
+        with self.subTest(holder=holder, form=form):
+            name = form.partition("(")[0]
+            self.assertEqual(name + str(inspect.signature(getattr(holder, name))), form)
+
+    def test_each_function_and_class_and_its_arguments(self):
         for file, forms in FUNCTIONS.items():
-            module = importlib.import_module("beatwright." + file)
             for form in forms:
-                with self.subTest(file=file, form=form):
-                    name = form.partition("(")[0]
-                    self.assertEqual(name + str(inspect.signature(getattr(module, name))), form)
+                self.has(importlib.import_module("beatwright." + file), form)
+
+    def test_each_method_and_its_arguments(self):
+        for (file, name), forms in METHODS.items():
+            for form in forms:
+                self.has(getattr(importlib.import_module("beatwright." + file), name), form)
 
 
 if __name__ == "__main__":

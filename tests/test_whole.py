@@ -1,18 +1,19 @@
-"""Point 3: a beat is as if its rules were done one by one, for drawn works, orders and words."""
+"""Point 3: a beat, of the beat machine and of the wires, is as if its rules were done one by one; drawn works."""
 
 import itertools
 import random
 import unittest
 
 from beatwright.beats import beat
-from beatwright.clashes import clash
+from beatwright.clashes import clash, read_late, written
 from beatwright.errors import Ring
 from beatwright.orders import cheapest, clashes_of
 from beatwright.plain import can, do, do_row
 from beatwright.plans import own_plan, plan
 from beatwright.terms import worth
+from beatwright.wires import tick, wired
 from beatwright.works import first_words, rule_of, widths_of
-from tests.samples import drawn_words, drawn_works, names_of
+from tests.samples import MANY_BITS, drawn_words, drawn_works, names_of
 
 
 def plans_of(works):
@@ -34,8 +35,9 @@ class BeatsTest(unittest.TestCase):
             now = do(works, name, now, doors)
         return states, now
 
-    def held(self, works, own, now, doors):
+    def held(self, works, own, wires, now, doors):
         taken, left, behind = beat(works, own, now, doors)
+        self.assertEqual(tick(works, wires, now, doors), (taken, behind), (works, own, now, doors))
         row = names_of(works)
         self.assertEqual(taken, [name for name in own[0] if name in taken])
         states, last = self.one_by_one(works, own, taken, now, doors)
@@ -65,30 +67,49 @@ class BeatsTest(unittest.TestCase):
         self.assertLess(row.index(other), row.index(name))
         self.assertIsNotNone(clash(works, *sorted((name, other), key=own[0].index)))
 
+    def run_held(self, works, own, chance, seen):
+        """Five beats from the first words on, with drawn words at the doors; what is met is counted."""
+        wires = wired(works, own)
+        now = wired_now = first_words(works)
+        for _ in range(5):
+            doors = drawn_words(chance, widths_of(works)[1])
+            taken, left, now = self.held(works, own, wires, now, doors)
+            # The wires go on from what they came to themselves.
+            wired_taken, wired_now = tick(works, wires, wired_now, doors)
+            self.assertEqual((wired_taken, wired_now), (taken, now))
+            seen["several"] += len(taken) > 1
+            seen["left"] += len(left) > 0
+            seen["unlike"] += taken != [name for name in names_of(works) if name in taken]
+            seen["late"] += any(set(written(works, one)) & set(read_late(works, other))
+                                for one, other in itertools.combinations(taken, 2))
+
     def test_runs_by_each_order(self):
         chance = random.Random(3)
-        seen = {"several": 0, "left": 0, "unlike": 0}
+        seen = {"several": 0, "left": 0, "unlike": 0, "late": 0}
         for _ in range(40):
             works = drawn_works(chance, chance.randrange(1, 5))
             for own in plans_of(works):
-                now = first_words(works)
-                for _ in range(5):
-                    taken, left, behind = self.held(works, own, now, drawn_words(chance, widths_of(works)[1]))
-                    seen["several"] += len(taken) > 1
-                    seen["left"] += len(left) > 0
-                    seen["unlike"] += taken != [name for name in names_of(works) if name in taken]
-                    now = behind
+                self.run_held(works, own, chance, seen)
         self.assertGreater(min(seen.values()), 100)
+
+    def test_runs_of_many_bits(self):
+        chance = random.Random(64)
+        seen = {"several": 0, "left": 0, "unlike": 0, "late": 0}
+        for _ in range(25):
+            works = drawn_works(chance, chance.randrange(1, 4), deep=4, widths=MANY_BITS)
+            for own in plans_of(works):
+                self.run_held(works, own, chance, seen)
+        self.assertGreater(min(seen.values()), 10)
 
     def test_from_any_state(self):
         chance = random.Random(33)
         for _ in range(60):
             works = drawn_works(chance, chance.randrange(2, 9), deep=4)
             names = names_of(works)
-            own = own_plan(works)
-            for _ in range(8):
-                self.held(works, own, *[drawn_words(chance, widths) for widths in widths_of(works)])
-            self.held(works, plan(works, names), *[drawn_words(chance, widths) for widths in widths_of(works)])
+            for own, many in ((own_plan(works), 8), (plan(works, names), 1)):
+                wires = wired(works, own)
+                for _ in range(many):
+                    self.held(works, own, wires, *[drawn_words(chance, widths) for widths in widths_of(works)])
 
     def test_no_order_has_fewer_clashes_than_the_cheapest(self):
         chance = random.Random(333)
