@@ -98,3 +98,8 @@ def widths_of(works):
 
 def first_words(works):
     return dict([(box[0], box[2]) for box in works[0]])
+
+
+# Words that are told in the order of boxes, or of doors, by their names.
+def named_words(things, words):
+    return dict([(thing[0], word) for thing, word in zip(things, words)])

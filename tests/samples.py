@@ -1,4 +1,6 @@
-"""Terms, widths and signs that several tests share."""
+"""Terms, works, widths and signs that several tests share."""
+
+import itertools
 
 from beatwright.works import made
 
@@ -11,6 +13,8 @@ DOORS = {"flag": 1, "pair": 2, "gate": 4}
 
 FEW_BITS = ({"a": 1, "b": 2, "c": 1, "d": 2}, {"go": 1, "by": 2})
 MANY_BITS = ({"a": 1, "b": 64, "c": 17, "d": 64}, {"go": 1, "by": 64})
+
+STATION_WORDS = ("plus", "minus", "xor", "and", "or")
 
 FORMS_OF_TWO = ["and", "or", "xor", "plus", "minus", "less", "same"]
 
@@ -140,3 +144,13 @@ def open_works(*rules):
             guard = ("or", guard, ("part", leaf, 0, 1))
         made_rules.append((name, guard, [(box, ("num", 2, 1)) for box in writes]))
     return made([(letter, 2, 0) for letter in "abcdemnpq"], [], made_rules)
+
+
+def all_sorts(lengths, sorts=("calm", "slide", "short")):
+    """Every mix of sorts of so many pipes, for each of some lengths."""
+    return [list(mix) for many in lengths for mix in itertools.product(sorts, repeat=many)]
+
+
+def drawn_stations(chance, width, many):
+    """So many stations of a line of a width."""
+    return [(chance.choice(STATION_WORDS), chance.randrange(2 ** width)) for _ in range(many)]

@@ -23,6 +23,10 @@ FUNCTIONS = {
     "lays": ["lay(net, T, early, late, doors)"],
     "wires": ["wired(works, plan)", "tick(works, wires, now, doors)"],
     "houses": ["House(works, plan)", "BeatHouse(works, plan)", "WireHouse(works, plan)"],
+    "lines": ["line(width, sorts, stations)"],
+    "looks": ["reached(works, most)", "kept(works, T, most)"],
+    "texts": ["shown(works)", "read(text)"],
+    "desk": ["answer(text)"],
 }
 
 METHODS = {

@@ -1,4 +1,7 @@
-"""Point 3: a beat, of the beat machine and of the wires, is as if its rules were done one by one; drawn works."""
+"""Point 3: a beat, of the beat machine and of the wires, is as if its rules were done one by one; drawn works.
+
+And of point 33: what is told as kept by the plain machine holds behind each beat of the wires.
+"""
 
 import itertools
 import random
@@ -7,13 +10,15 @@ import unittest
 from beatwright.beats import beat
 from beatwright.clashes import clash, read_late, written
 from beatwright.errors import Ring
+from beatwright.lines import line
+from beatwright.looks import kept
 from beatwright.orders import cheapest, clashes_of
 from beatwright.plain import can, do, do_row
 from beatwright.plans import own_plan, plan
 from beatwright.terms import worth
 from beatwright.wires import tick, wired
 from beatwright.works import first_words, rule_of, widths_of
-from tests.samples import MANY_BITS, drawn_words, drawn_works, names_of
+from tests.samples import FEW_BITS, MANY_BITS, all_sorts, drawn_term, drawn_words, drawn_works, names_of
 
 
 def plans_of(works):
@@ -118,6 +123,74 @@ class BeatsTest(unittest.TestCase):
             fewest = len(clashes_of(works, cheapest(works)))
             for order in itertools.permutations(names_of(works)):
                 self.assertLessEqual(fewest, len(clashes_of(works, list(order))))
+
+
+class SayingsTest(unittest.TestCase):
+    def holds_behind_each_beat(self, works, own, sayings, rows):
+        """The wires, and the beat machine beside them, go on from the first words."""
+        wires = wired(works, own)
+        widths = widths_of(works)
+        now = first_words(works)
+        for doors in rows:
+            behind = beat(works, own, now, doors)[2]
+            now = tick(works, wires, now, doors)[1]
+            self.assertEqual(now, behind)
+            for saying in sayings:
+                self.assertEqual(worth(saying, widths, now, now, {}), 1, (works, own, saying))
+
+    def not_all_words_keep(self, works, saying):
+        """Whether there are words, come to or not, for which the saying is 0."""
+        boxes = widths_of(works)[0]
+        for words in itertools.product(*[range(2 ** width) for width in boxes.values()]):
+            now = dict(zip(boxes, words))
+            if worth(saying, (boxes, {}), now, now, {}) == 0:
+                return True
+        return False
+
+    def test_drawn_sayings_that_are_kept(self):
+        chance = random.Random(33)
+        many = 0
+        for _ in range(60):
+            works = drawn_works(chance, chance.randrange(2, 5))
+            drawn = [drawn_term(chance, 1, 3, FEW_BITS[0], {}) for _ in range(20)]
+            sayings = [saying for saying in drawn if kept(works, saying, 64)[0] == "kept"]
+            many += sum(self.not_all_words_keep(works, saying) for saying in sayings)
+            rows = [drawn_words(chance, widths_of(works)[1]) for _ in range(6)]
+            for own in plans_of(works):
+                self.holds_behind_each_beat(works, own, sayings, rows)
+        self.assertGreater(many, 100)
+
+    def test_the_states_that_are_told_with_it(self):
+        chance = random.Random(3333)
+        for _ in range(30):
+            works = drawn_works(chance, chance.randrange(2, 6))
+            states = kept(works, ("num", 1, 1), 64)[1]
+            for own in (own_plan(works), plan(works, names_of(works))):
+                wires, now = wired(works, own), first_words(works)
+                for _ in range(12):
+                    now = tick(works, wires, now, drawn_words(chance, widths_of(works)[1]))[1]
+                    self.assertIn(tuple(now[box[0]] for box in works[0]), states)
+
+    def test_sayings_of_lines(self):
+        # The first station makes each thing odd, the next one keeps it so: wherever a pipe is full its item is odd.
+        chance = random.Random(31)
+        for sorts in all_sorts([2]):
+            works = line(2, sorts, [("or", 1), ("plus", 2), ("xor", 1)])
+            sayings = [("or", ("not", ("box", "full" + letter)), ("part", ("late", "item" + letter), 0, 1))
+                       for letter in "ab"]
+            sayings.append(("not", ("part", ("box", "shown"), 0, 1)))
+            for saying in sayings:
+                self.assertEqual(kept(works, saying, 300)[0], "kept")
+            rows = [drawn_words(chance, widths_of(works)[1]) for _ in range(12)]
+            for own in plans_of(works):
+                self.holds_behind_each_beat(works, own, sayings, rows)
+
+    def test_a_broken_saying_need_not_be_broken_by_the_wires(self):
+        works = line(1, ["short"], [("xor", 0), ("xor", 0)])
+        never_full = ("not", ("box", "fulla"))
+        self.assertEqual(kept(works, never_full, 300), ("broken", [("worka", (1, 0))]))
+        rows = [{"has": 1, "thing": number % 2} for number in range(8)]
+        self.holds_behind_each_beat(works, plan(works, ["worka", "workb"]), [never_full], rows)
 
 
 if __name__ == "__main__":
